@@ -3,13 +3,24 @@
 import inspect
 import unittest
 
-from keptpairs import books, errors, pairs, programs
+from keptpairs import books, changes, errors, judging, pairs, pricing, programs, tables
 
 CLASSES = {
     errors: ["OrderError", "InvalidPair", "InvalidBook", "InvalidProgram", "UnknownName", "NotALine", "InvalidRow",
              "Mismatch", "InvalidPrice", "NotKept", "LetBy"],
     pairs: ["Pairs"],
     books: ["Book"],
+    tables: ["Table"],
+    judging: ["Witness"],
+    changes: ["Surrounding"],
+}
+
+FUNCTIONS = {
+    programs: ["check_program"],
+    tables: ["identity"],
+    judging: ["lost", "must_keep", "judge", "compare", "require"],
+    pricing: ["price", "needless", "cheapest"],
+    changes: ["exchange", "drop_read", "drop_write", "forward", "drop_fence"],
 }
 
 SIGNATURES = [
@@ -25,6 +36,23 @@ SIGNATURES = [
     (books.Book.sequential, "()"),
     (books.Book.buffered, "()"),
     (books.Book.relaxed, "()"),
+    (tables.Table, "(source, target)"),
+    (tables.Table.connects, "(self, names)"),
+    (tables.Table.then, "(self, second)"),
+    (tables.identity, "(source, target, *, names=None)"),
+    (judging.lost, "(table)"),
+    (judging.must_keep, "(table, step)"),
+    (judging.judge, "(table)"),
+    (judging.compare, "(weaker, stronger, *, names=None)"),
+    (judging.require, "(table)"),
+    (pricing.price, "(table, prices)"),
+    (pricing.needless, "(table)"),
+    (pricing.cheapest, "(source, target, prices, *, names)"),
+    (changes.exchange, "(book, first, second, *, same_cell=False)"),
+    (changes.drop_read, "(book, first, second)"),
+    (changes.drop_write, "(book, first, second)"),
+    (changes.forward, "(book, write, read)"),
+    (changes.drop_fence, "(book, stays, dropped)"),
 ]
 
 METHODS = {
@@ -32,6 +60,9 @@ METHODS = {
                   "__iter__", "product"],
     books.Book: ["__init__", "names", "keeps", "ordered", "lines", "run", "outcomes", "__contains__", "sequential",
                  "buffered", "relaxed"],
+    tables.Table: ["__init__", "__getitem__", "__setitem__", "__iter__", "__call__", "__ior__", "connects", "then"],
+    judging.Witness: ["__init__"],
+    changes.Surrounding: ["__init__"],
 }
 
 
@@ -42,7 +73,10 @@ class InterfaceTest(unittest.TestCase):
             for name in names:
                 self.assertTrue(inspect.isclass(getattr(module, name)))
                 self.assertEqual(getattr(module, name).__module__, module.__name__)
-        self.assertEqual(programs.check_program.__module__, "keptpairs.programs")
+        for module, names in FUNCTIONS.items():
+            for name in names:
+                self.assertTrue(inspect.isfunction(getattr(module, name)))
+                self.assertEqual(getattr(module, name).__module__, module.__name__)
 
     def test_arguments(self):
         for item, expected in SIGNATURES:
@@ -62,3 +96,13 @@ class InterfaceTest(unittest.TestCase):
 
     def test_lines_is_a_generator(self):
         self.assertTrue(inspect.isgeneratorfunction(books.Book.lines))
+
+    def test_fields(self):
+        table = tables.identity(books.Book.sequential(), books.Book.buffered())
+        self.assertIs(type(table.source), books.Book)
+        self.assertIs(type(table.target), books.Book)
+        witness = judging.judge(table)
+        self.assertEqual(sorted(vars(witness)), ["line", "outcome", "program", "step"])
+        found = changes.exchange(books.Book.sequential(), "read", "write")
+        self.assertEqual(sorted(vars(found)), ["changed", "index", "line", "outcome", "program"])
+        self.assertIs(type(found.index), int)

@@ -9,6 +9,8 @@ PACKAGE = Path(__file__).resolve().parent.parent / "keptpairs"
 BARRED = {"typing", "enum", "Enum", "Flag", "Generic", "Protocol", "namedtuple", "dataclass", "global"}
 UNUSED = {"register", "mro", "elements", "open", "input", "law", "eval", "exec", "compile", "vars", "dir", "id"}
 LIBRARY = {"heapq", "math", "collections"}
+AT_ONCE = {"range", "zip", "enumerate", "reversed"}
+TAKERS = {"list", "tuple", "dict", "sorted", "sum", "any", "all", "min", "max", "enumerate", "zip", "len", "reversed"}
 
 
 def files():
@@ -103,3 +105,48 @@ class LanguageTest(unittest.TestCase):
             for node in ast.walk(tree):
                 for mark in getattr(node, "decorator_list", []):
                     self.assertIn(ast.unparse(mark), ("property", "staticmethod"), name)
+
+    def test_ranges_and_zips_are_iterated_at_once(self):
+        for name, tree in trees():
+            taken = set()
+            for node in ast.walk(tree):
+                if isinstance(node, (ast.For, ast.comprehension)):
+                    taken.add(node.iter)
+                if isinstance(node, ast.Call) and isinstance(node.func, ast.Name) and node.func.id in TAKERS:
+                    taken.update(node.args)
+            for node in ast.walk(tree):
+                if isinstance(node, ast.Call) and isinstance(node.func, ast.Name) and node.func.id in AT_ONCE:
+                    self.assertIn(node, taken, (name, node.lineno))
+
+    def test_no_variable_has_the_name_of_a_class_or_an_import_of_its_file(self):
+        for name, tree in trees():
+            bound = {alias.name for node in tree.body if isinstance(node, ast.ImportFrom) for alias in node.names}
+            bound |= {node.name for node in tree.body if isinstance(node, ast.ClassDef)}
+            for node in ast.walk(tree):
+                if isinstance(node, ast.Name) and isinstance(node.ctx, ast.Store):
+                    self.assertNotIn(node.id, bound, (name, node.lineno))
+                if isinstance(node, ast.arg):
+                    self.assertNotIn(node.arg, bound, (name, node.lineno))
+
+    def test_each_function_stands_in_one_file_only(self):
+        found = []
+        for _, tree in trees():
+            found += [node.name for node in tree.body if isinstance(node, (ast.FunctionDef, ast.ClassDef))]
+        self.assertEqual(len(found), len(set(found)))
+
+    def test_no_file_imports_itself_by_way_of_others(self):
+        needs = {}
+        for name, tree in trees():
+            needs[name] = [node.module.split(".")[1] + ".py" for node in ast.walk(tree)
+                           if isinstance(node, ast.ImportFrom) and node.module.startswith("keptpairs.")]
+        done = []
+        while len(done) < len(needs):
+            free = [name for name in needs if name not in done and all(other in done for other in needs[name])]
+            self.assertTrue(free)
+            done += free
+
+    def test_augmented_assignment_is_for_numbers(self):
+        for name, tree in trees():
+            for node in ast.walk(tree):
+                if isinstance(node, ast.AugAssign):
+                    self.assertEqual(ast.unparse(node).split(" ", 1)[1], "+= 1", (name, node.lineno))
